@@ -1,0 +1,1 @@
+"""Leavefirst: signs are changed while people are inside."""

@@ -1,0 +1,79 @@
+"""The rules of the language that a look at the text and its syntax tree can tell."""
+
+import ast
+import os
+import unittest
+
+ROOT = os.path.dirname(os.path.dirname(os.path.abspath(__file__)))
+PACKAGE = os.path.join(ROOT, "leavefirst")
+FUNCTIONS = (ast.FunctionDef, ast.AsyncFunctionDef)
+LIBRARY = ("heapq", "math", "itertools", "collections", "sys")
+BUILTINS = set(dir(__builtins__) if not isinstance(__builtins__, dict) else __builtins__)
+ALLOWED = set(
+    "len range enumerate zip min max sum abs sorted reversed int str bool bytes list tuple dict set frozenset isinstance"
+    " ord repr any all divmod pow getattr hasattr setattr iter next map super property staticmethod classmethod print"
+    " Exception ValueError TypeError KeyError IndexError LookupError ZeroDivisionError ArithmeticError OverflowError"
+    " RuntimeError NotImplementedError AttributeError StopIteration NotImplemented".split())
+
+
+def sources():
+    """Return the pairs of a file's path and its text, for all files of the package."""
+    found = []
+    for folder, _, names in os.walk(PACKAGE):
+        for name in sorted(names):
+            if "__pycache__" not in folder:
+                path = os.path.join(folder, name)
+                with open(path, encoding="utf-8") as file:
+                    found.append((os.path.relpath(path, ROOT), file.read()))
+    return found
+
+
+class LanguageTest(unittest.TestCase):
+    def test_files_and_characters(self):
+        paths = [path for path, _ in sources()]
+        self.assertIn(os.path.join("leavefirst", "__init__.py"), paths)
+        for path, text in sources():
+            with self.subTest(path):
+                self.assertTrue(path.endswith(".py") and path == path.lower())
+                self.assertTrue(all(sign == "\n" or " " <= sign <= "~" for sign in text))
+
+    def test_sizes(self):
+        for path, text in sources():
+            lines = text.split("\n")
+            self.assertTrue(len(lines) <= 400 and max(map(len, lines)) <= 120, path)
+            for node in ast.walk(ast.parse(text)):
+                if isinstance(node, FUNCTIONS):
+                    self.assertTrue(node.end_lineno - node.lineno < 40, f"{path}: {node.name}")
+
+    def test_imports(self):
+        for path, text in sources():
+            for node in ast.walk(ast.parse(text)):
+                self.assertNotIsInstance(node, ast.Import, path)
+                if isinstance(node, ast.ImportFrom):
+                    self.assertEqual(node.level, 0, path)
+                    self.assertIn(node.module.split(".")[0], ("leavefirst",) + LIBRARY, path)
+
+    def test_expressions(self):
+        for path, text in sources():
+            for node in ast.walk(ast.parse(text)):
+                where = f"{path}:{getattr(node, 'lineno', 0)}"
+                self.assertNotIsInstance(node, (ast.Div, ast.Global), where)
+                if isinstance(node, ast.Constant):
+                    self.assertNotIsInstance(node.value, (float, complex), where)
+                    self.assertFalse(isinstance(node.value, str) and "%" in node.value, where)
+
+    def test_builtins_are_the_allowed_ones_and_keep_their_meaning(self):
+        for path, text in sources():
+            for node in ast.walk(ast.parse(text)):
+                if isinstance(node, ast.Name):
+                    where = f"{path}:{node.lineno}: {node.id}"
+                    if isinstance(node.ctx, ast.Load):
+                        self.assertTrue(node.id not in BUILTINS or node.id in ALLOWED, where)
+                    else:
+                        self.assertNotIn(node.id, BUILTINS, where)
+                elif isinstance(node, ast.arg):
+                    self.assertNotIn(node.arg, BUILTINS, f"{path}:{node.lineno}: {node.arg}")
+
+
+if __name__ == "__main__":
+    unittest.main()
