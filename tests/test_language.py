@@ -11,7 +11,8 @@ LIBRARY = ("heapq", "math", "itertools", "collections", "sys")
 BUILTINS = set(dir(__builtins__) if not isinstance(__builtins__, dict) else __builtins__)
 ALLOWED = set(
     "len range enumerate zip min max sum abs sorted reversed int str bool bytes list tuple dict set frozenset"
-    " isinstance ord repr any all divmod pow getattr hasattr setattr iter next map super property staticmethod classmethod print"
+    " isinstance ord repr any all divmod pow getattr hasattr setattr iter next map super"
+    " property staticmethod classmethod print"
     " Exception ValueError TypeError KeyError IndexError LookupError ZeroDivisionError ArithmeticError OverflowError"
     " RuntimeError NotImplementedError AttributeError StopIteration NotImplemented".split())
 
