@@ -111,3 +111,10 @@ def is_deeply_tuple(value):
     if value.__class__ is tuple:
         return all(is_deeply_tuple(part) for part in value)
     return value.__class__ is int
+
+
+def is_plain(value):
+    """Return whether value is built of tuples, integers and strings only."""
+    if value.__class__ is tuple:
+        return all(is_plain(part) for part in value)
+    return value.__class__ in (int, str)

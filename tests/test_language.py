@@ -54,6 +54,31 @@ class LanguageTest(unittest.TestCase):
                     self.assertEqual(node.level, 0, path)
                     self.assertIn(node.module.split(".")[0], ("leavefirst",) + LIBRARY, path)
 
+    def test_no_two_files_import_from_each_other(self):
+        above = {}
+        for path, text in sources():
+            name = path[:-len(".py")].replace(os.sep, ".")
+            above[name] = {node.module for node in ast.walk(ast.parse(text)) if isinstance(node, ast.ImportFrom)}
+        for name in above:
+            reached, rest = set(), [name]
+            while rest:
+                for module in above.get(rest.pop(), ()):
+                    if module not in reached:
+                        reached.add(module)
+                        rest.append(module)
+            self.assertNotIn(name, reached)
+
+    def test_names_of_imports_and_classes_are_given_no_other_meaning(self):
+        for path, text in sources():
+            tree = ast.parse(text)
+            taken = {name.name for node in ast.walk(tree) if isinstance(node, ast.ImportFrom) for name in node.names}
+            taken |= {node.name for node in tree.body if isinstance(node, (ast.ClassDef, *FUNCTIONS))}
+            for node in ast.walk(tree):
+                if isinstance(node, ast.Name) and not isinstance(node.ctx, ast.Load):
+                    self.assertNotIn(node.id, taken, f"{path}:{node.lineno}")
+                elif isinstance(node, ast.arg):
+                    self.assertNotIn(node.arg, taken, f"{path}:{node.lineno}")
+
     def test_expressions(self):
         for path, text in sources():
             for node in ast.walk(ast.parse(text)):
