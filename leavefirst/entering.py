@@ -23,9 +23,7 @@ class Run:
     def can_change(self, name):
         """Return whether the change of this name can be carried out."""
         ruled = self.ruled
-        if name not in ruled.places or ruled.is_in(name, self.versions):
-            return False
-        if not ruled.all_in(ruled.ahead[name], self.versions):
+        if name not in ruled.places or not ruled.can_come_next(name, self.versions):
             return False
         return not self.is_inside() or ruled.all_in(ruled.drained[name], self.entered)
 

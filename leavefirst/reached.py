@@ -69,6 +69,14 @@ def walk_to(ways, state):
     return (here[0], tuple(sights[::-1]))
 
 
+def misled_walk(plan, ways):
+    """Return (start, sights) of a shortest misled walk to one of the reached states, or None."""
+    for state in ways:
+        if is_misled(plan, state):
+            return walk_to(ways, state)
+    return None
+
+
 def leads(plan, waits, drains, state):
     """Return the ascending tuple of the states to which a state leads."""
     return tuple(sorted([following for _, following in steps_of(Ruled(plan, waits, drains), state)]))
@@ -86,8 +94,4 @@ def is_calm(plan, waits, drains):
 
 def bewildering(plan, waits, drains):
     """Return (start, sights) of a misled walk that is passable, one of the shortest, or None."""
-    ways = ways_to_states(small_enough(plan, waits, drains))
-    for state in ways:
-        if is_misled(plan, state):
-            return walk_to(ways, state)
-    return None
+    return misled_walk(plan, ways_to_states(small_enough(plan, waits, drains)))

@@ -66,6 +66,14 @@ class Ruled:
         """Return whether the changes of all these names are in the versions."""
         return all([self.is_in(name, versions) for name in names])
 
+    def can_come_next(self, name, versions):
+        """Return whether the change of this name is not in the versions and all before it in the order are."""
+        return not self.is_in(name, versions) and self.all_in(self.ahead[name], versions)
+
+    def coming_next(self, versions):
+        """Return the list of the names of the changes that can come next in the cut."""
+        return [name for name in self.places if self.can_come_next(name, versions)]
+
     def names_in(self, versions):
         """Return the names of the changes in the versions, each behind those that are before it in the order."""
         found = [name for name in self.places if self.is_in(name, versions)]
