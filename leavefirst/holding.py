@@ -1,8 +1,8 @@
 """Holding: where somebody who is inside can keep all that comes next from being carried out, for ever."""
 
-from leavefirst.reached import small_enough, walk_to, ways_to_states
+from leavefirst.reached import small_enough, steps_of, walk_to, ways_to_states
 from leavefirst.ruled import Ruled, none_above
-from leavefirst.walks import still_walk
+from leavefirst.walks import is_at_end, still_walk
 
 
 def is_barred(ruled, versions):
@@ -38,6 +38,21 @@ def hold_among(ruled, ways):
             if is_held(ruled, versions, state):
                 return (versions, *walk_to(ways, state))
     return None
+
+
+def place_inside(ruled, versions, start, sights):
+    """Return where a walker comes to by the sights, with changes of the cut alone, once the cut that it enters is done.
+
+    None is returned if there are no such deeds, or if the walker comes to an end.
+    """
+    entered = ruled.entry(versions)
+    state = (start, entered, entered)
+    for version in sights:
+        found = [following for seen, following in steps_of(ruled, state) if seen == version]
+        if not found or not none_above(found[0][2], versions):
+            return None
+        state = found[0]
+    return None if is_at_end(ruled.plan, state[0]) else state[0]
 
 
 def barred_cuts(plan, waits, drains):

@@ -38,7 +38,8 @@ class ErrorsTest(unittest.TestCase):
         for _, name, args in ROWS:
             made = getattr(errors, name)
             given = things[:len(args)]
-            for error in (made(*given), made(**dict(zip(args, given)))):
+            by_name = list(zip(args, given))
+            for error in (made(*given), made(**dict(by_name)), made(**dict(by_name[::-1]))):
                 with self.subTest(name):
                     for arg, thing in zip(args, given):
                         self.assertIs(getattr(error, arg), thing)
