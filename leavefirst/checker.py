@@ -8,7 +8,7 @@ from leavefirst.holding import all_barred, goes_round, is_barred, is_held, place
 from leavefirst.plans import is_row
 from leavefirst.reached import is_misled, start_states, steps_of
 from leavefirst.regimes import more_regimes, regime_of
-from leavefirst.ruled import Ruled
+from leavefirst.ruled import Ruled, ruled_by
 from leavefirst.tables import (
     ONES, Excuse, first_drain_in, first_wait_in, is_of_walk, price_of, with_drain, with_wait,
 )
@@ -53,7 +53,7 @@ def table_fault(ruled, table, kind):
 
 def good_fault(plan, regime, table):
     """Return the first fault of a good table for a closed regime, or None."""
-    return table_fault(Ruled(plan, *regime), table, "good")
+    return table_fault(ruled_by(plan, regime), table, "good")
 
 
 def walk_fault(ruled, start, sights):
@@ -106,7 +106,7 @@ class Entries:
     def fault_with_walk(self, k, entry):
         """Return the first fault of an entry with a walk, or None."""
         regime, start, sights = entry
-        fault = walk_fault(Ruled(self.plan, *regime), start, sights)
+        fault = walk_fault(ruled_by(self.plan, regime), start, sights)
         if fault is None:
             return self.clause_fault(k, entry)
         return ("walk", k) if fault == ("outcome",) else (*fault, k)
@@ -114,10 +114,11 @@ class Entries:
     def fault_with_hold(self, k, entry):
         """Return the first fault of an entry with a hold, or None."""
         regime, versions, start, sights = entry
-        fault = hold_fault(Ruled(self.plan, *regime), versions, start, sights)
+        fault = hold_fault(ruled_by(self.plan, regime), versions, start, sights)
         if fault is not None:
             return (*fault, k)
-        for more in more_regimes(self.plan, *regime):
+        order, drained = regime
+        for more in more_regimes(self.plan, order, drained):
             if self.lacks(more):
                 return ("more", k, more)
         return None
@@ -139,7 +140,11 @@ def fault_of_states(plan, word, claim, body):
     ruled = Ruled(plan, waits, drains)
     if word == "shown":
         return table_fault(ruled, body, kind)
-    return walk_fault(ruled, *body) if kind == "calm" else hold_fault(ruled, *body)
+    if kind == "calm":
+        start, sights = body
+        return walk_fault(ruled, start, sights)
+    versions, start, sights = body
+    return hold_fault(ruled, versions, start, sights)
 
 
 def fault_of_none(plan, word, waits, drains, body):

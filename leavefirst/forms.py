@@ -1,18 +1,13 @@
 """Forms: whether values are what certificates are made of, whatever is shown by them."""
 
 from leavefirst.claims import are_pairs
-from leavefirst.plans import is_below, is_row, is_whole
+from leavefirst.plans import is_below, is_row, is_start
 from leavefirst.regimes import is_regime, regime_of
-from leavefirst.ruled import Ruled, none_above
+from leavefirst.ruled import Ruled, none_above, ruled_by
 
 # A sign has at most so many versions.
 VERSIONS = 5
 MOST_SIGHTS = 120
-
-
-def is_start(plan, value):
-    """Return whether value is a start of the plan."""
-    return is_whole(value) and value in plan[1]
 
 
 def are_sights(value):
@@ -77,7 +72,7 @@ def is_entry(plan, value):
     """Return whether value is a closed regime with a walk, or with a hold, behind it."""
     if not isinstance(value, tuple) or not value or not is_closed(plan, value[0]):
         return False
-    return is_walk(plan, value[1:]) or is_hold(Ruled(plan, *value[0]), value[1:])
+    return is_walk(plan, value[1:]) or is_hold(ruled_by(plan, value[0]), value[1:])
 
 
 def are_entries(plan, value):
@@ -96,7 +91,7 @@ def is_good_one(plan, value):
     """Return whether value is a pair of a closed regime and a tuple of its states."""
     if not is_row(value, 2) or not is_closed(plan, value[0]):
         return False
-    return are_states(Ruled(plan, *value[0]), value[1])
+    return are_states(ruled_by(plan, value[0]), value[1])
 
 
 def has_form_of_states(plan, word, claim, body):

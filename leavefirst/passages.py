@@ -3,8 +3,7 @@
 from leavefirst.errors import (
     Crossed, Done, Ended, Inside, LimitExceeded, TooLate, UnknownName, UnknownStart, UnknownWalker, Waiting,
 )
-from leavefirst.forms import is_start
-from leavefirst.plans import is_below, is_whole
+from leavefirst.plans import is_below, is_start, is_whole
 from leavefirst.ruled import Ruled
 from leavefirst.walks import is_at_end, place_behind, read_of
 

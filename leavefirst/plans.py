@@ -110,6 +110,11 @@ def require_plan(value):
     return value
 
 
+def is_start(plan, value):
+    """Return whether value is a start of the plan."""
+    return is_whole(value) and value in plan[1]
+
+
 def all_places(plan):
     """Return a dict that gives each name of the plan its place, (sign, version)."""
     found = {}

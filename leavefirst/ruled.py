@@ -101,3 +101,9 @@ class Ruled:
         for _, changes in self.plan[0]:
             rows = [(*row, version) for row in rows for version in range(len(changes) + 1)]
         return [row for row in rows if self.is_cut(row)]
+
+
+def ruled_by(plan, regime):
+    """Return the plan under a closed regime."""
+    order, drained = regime
+    return Ruled(plan, order, drained)

@@ -5,7 +5,7 @@ from heapq import heappop, heappush
 from leavefirst.holding import hold_among
 from leavefirst.reached import misled_walk, ways_to_states
 from leavefirst.regimes import regime_of
-from leavefirst.ruled import Ruled
+from leavefirst.ruled import ruled_by
 from leavefirst.tables import asked_by, price_of
 
 
@@ -49,7 +49,7 @@ class Search:
     def go_on(self):
         """Look at the cheapest of the regimes that are left."""
         _, regime = heappop(self.queue)
-        ruled = Ruled(self.plan, *regime)
+        ruled = ruled_by(self.plan, regime)
         ways = ways_to_states(ruled)
         wrong = what_is_wrong(ruled, ways)
         if wrong is None:

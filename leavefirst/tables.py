@@ -82,8 +82,9 @@ def is_of_walk(entry):
 def asked_by(plan, entry):
     """Return the list of the closed regimes that an entry asks for, those that are excused among them."""
     regime = entry[0]
+    order, drained = regime
     if not is_of_walk(entry):
-        return list(more_regimes(plan, *regime))
+        return list(more_regimes(plan, order, drained))
     _, start, sights = entry
     waits, drains = two_clauses(plan, start, sights)
     found = [with_wait(plan, regime, pair) for pair in waits] + [with_drain(plan, regime, pair) for pair in drains]

@@ -23,14 +23,14 @@ def node_line(node):
         return node[1]
     _, sign, branches, other = node
     ways = [f"{value}:{target}" for value, target in branches]
-    return " ".join(["read", str(sign), *ways, "else", str(other)])
+    return " ".join(["read", str(sign)] + ways + ["else", str(other)])
 
 
 def format_plan(plan):
     """Return the text of a plan."""
     signs, starts, nodes = plan
     lines = [line for sign in signs for line in sign_lines(sign)]
-    lines.append(" ".join(["starts", *[str(start) for start in starts]]))
+    lines.append(" ".join(["starts"] + [str(start) for start in starts]))
     return text_of(lines + [node_line(node) for node in nodes])
 
 

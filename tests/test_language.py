@@ -88,6 +88,44 @@ class LanguageTest(unittest.TestCase):
                     self.assertNotIsInstance(node.value, (float, complex), where)
                     self.assertFalse(isinstance(node.value, str) and "%" in node.value, where)
 
+    def test_calls_have_no_stars(self):
+        for path, text in sources():
+            for node in ast.walk(ast.parse(text)):
+                if isinstance(node, ast.Call):
+                    where = f"{path}:{node.lineno}"
+                    self.assertFalse(any(isinstance(part, ast.Starred) for part in node.args), where)
+                    self.assertFalse(any(word.arg is None for word in node.keywords), where)
+
+    def test_library_names_are_only_called(self):
+        for path, text in sources():
+            tree = ast.parse(text)
+            taken = {name.name for node in tree.body if isinstance(node, ast.ImportFrom) and node.module in LIBRARY
+                     for name in node.names}
+            called = {id(node.func) for node in ast.walk(tree) if isinstance(node, ast.Call)}
+            for node in ast.walk(tree):
+                if isinstance(node, ast.Name) and node.id in taken:
+                    self.assertIn(id(node), called, f"{path}:{node.lineno}")
+
+    def test_sets_are_sorted_at_once(self):
+        for path, text in sources():
+            tree = ast.parse(text)
+            at_once = {id(part) for node in ast.walk(tree) if isinstance(node, ast.Call)
+                       and isinstance(node.func, ast.Name) and node.func.id in ("sorted", "len") for part in node.args}
+            for node in ast.walk(tree):
+                where = f"{path}:{getattr(node, 'lineno', 0)}"
+                self.assertNotIsInstance(node, (ast.Set, ast.SetComp, ast.GeneratorExp, ast.Yield), where)
+                if isinstance(node, ast.Call) and isinstance(node.func, ast.Name) and node.func.id == "set":
+                    self.assertIn(id(node), at_once, where)
+
+    def test_methods_and_attributes_of_one_class_have_different_names(self):
+        for path, text in sources():
+            for made in ast.walk(ast.parse(text)):
+                if isinstance(made, ast.ClassDef):
+                    methods = {node.name for node in made.body if isinstance(node, FUNCTIONS)}
+                    stored = {node.attr for node in ast.walk(made) if isinstance(node, ast.Attribute)
+                              and isinstance(node.ctx, ast.Store)}
+                    self.assertFalse(methods & stored, f"{path}: {made.name}")
+
     def test_builtins_are_the_allowed_ones_and_keep_their_meaning(self):
         for path, text in sources():
             for node in ast.walk(ast.parse(text)):
